@@ -1,0 +1,1 @@
+"""Pageties: ties above places in a row, laid on few pages."""
