@@ -7,6 +7,18 @@ import unittest
 FUNCTIONS = {
     "webs": {"is_web": ["thing"], "is_row": ["web", "thing"]},
     "writing": {"written": ["web"]},
+    "reading": {"read": ["text"]},
+    "pairs": {
+        "how": ["web", "row", "one", "other"],
+        "clashes": ["web", "row", "kind"],
+        "greatest": ["web", "row", "kind"],
+        "are_clashing": ["web", "row", "kind", "thing"],
+    },
+    "pages": {
+        "are_right": ["web", "row", "kind", "thing"],
+        "page_count": ["pages"],
+        "fewest_pages": ["web", "row", "kind"],
+    },
 }
 
 

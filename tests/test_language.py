@@ -41,6 +41,15 @@ Protocol ABC ABCMeta namedtuple NamedTuple TypedDict TYPE_CHECKING abstractmetho
 
 BANNED_PARTS = "dataclass overload contextmanager".split()
 
+WALKED_AT_ONCE = "zip enumerate reversed range items keys values".split()
+
+WALKERS = "list tuple dict sorted sum any all enumerate zip".split()
+
+KEYWORDS = {
+    "sorted": ["key", "reverse"], "min": ["key", "default"], "max": ["key", "default"],
+    "sum": ["start"], "enumerate": ["start"], "zip": ["strict"],
+}
+
 
 def faults_of_text(text):
     rows = text.split("\n")
@@ -178,9 +187,54 @@ def faults_of_node(node, own_methods):
             yield from faults_of(node)
 
 
+def called_name(node):
+    if isinstance(node, ast.Call) and isinstance(node.func, ast.Name):
+        return node.func.id
+    if isinstance(node, ast.Call) and isinstance(node.func, ast.Attribute):
+        return node.func.attr
+    return ""
+
+
+def is_walked_on_the_spot(node, above):
+    if isinstance(above, (ast.For, ast.comprehension)):
+        return above.iter is node
+    name = called_name(above)
+    if name in ("min", "max"):
+        return len(above.args) == 1
+    if name == "join":
+        return isinstance(above.func.value, ast.Constant)
+    return name in WALKERS and (above.args[0] is node or name == "zip")
+
+
+def is_set_asked_on_the_spot(above):
+    if isinstance(above, ast.Compare):
+        return all(isinstance(sign, (ast.In, ast.NotIn, ast.Eq, ast.NotEq)) for sign in above.ops)
+    if isinstance(above, ast.BinOp):
+        return True
+    return called_name(above) in ("sorted", "len") and not above.keywords
+
+
+def faults_of_place(node, above):
+    name = called_name(node)
+    if name in WALKED_AT_ONCE and not is_walked_on_the_spot(node, above):
+        yield "L23"
+    if (name in ("set", "frozenset") or isinstance(node, ast.Set)) and not is_set_asked_on_the_spot(above):
+        yield "L24"
+    if isinstance(node, ast.Call) and hasattr(builtins, name):
+        if any(word.arg not in KEYWORDS.get(name, []) for word in node.keywords):
+            yield "L22"
+
+
+def faults_of_places(tree):
+    for above in ast.walk(tree):
+        for node in ast.iter_child_nodes(above):
+            for fault in faults_of_place(node, above):
+                yield fault + " in row " + str(getattr(node, "lineno", 0))
+
+
 def faults(text):
     tree = ast.parse(text)
-    found = list(faults_of_text(text)) + list(faults_of_top(tree))
+    found = list(faults_of_text(text)) + list(faults_of_top(tree)) + list(faults_of_places(tree))
     own_methods = [
         part.name
         for node in ast.walk(tree)
@@ -238,7 +292,9 @@ class Walk(unittest.TestCase):
             "def some(things):\n    kept = {}\n    for k, thing in enumerate(things):\n"
             "        kept[k] = thing if thing is not None else MOST\n"
             "    if not kept:\n        raise NoText(f\"none of {things!r}\")\n"
-            "    return [kept[k] for k in kept if k % 2 == 0]\n"
+            "    return [kept[k] for k in kept if k % 2 == 0]\n\n\n"
+            "def other(things):\n    if 3 in set(things):\n        return len(set(things))\n"
+            "    return sorted(range(len(things)), key=lambda k: things[k])\n"
         ), [])
 
     def test_code_outside_the_rules(self):
@@ -273,6 +329,12 @@ class Walk(unittest.TestCase):
             ("L17", "def some(x):\n    return type(x)\n"),
             ("L17", "MOST = 3  # of this type\n"),
             ("L20", "def some(x, y):\n    return x is y\n"),
+            ("L22", "def some(x):\n    return int(x, base=3)\n"),
+            ("L23", "def some(x):\n    y = range(x)\n    return [z for z in y]\n"),
+            ("L23", "def some(x):\n    return len(x.values())\n"),
+            ("L23", "def some(x):\n    return other(enumerate(x))\n"),
+            ("L24", "def some(x):\n    y = set(x)\n    return len(y)\n"),
+            ("L24", "def some(x):\n    return [y for y in set(x)]\n"),
             ("L25", "def some(x):\n    return x.title()\n"),
             ("L27", "WORDS = '50%'\n"),
         ):

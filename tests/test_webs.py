@@ -5,33 +5,10 @@ import itertools
 import unittest
 
 from pageties.webs import is_row, is_web
+from tests.things import PLAIN_THINGS, deep_things
 
 PAIRS_OF_SIX = tuple(itertools.combinations(range(6), 2))
 FULL_OF_EIGHT = (8, tuple(itertools.combinations(range(8), 2)))
-
-
-def nested(depth, inner, as_list):
-    thing = inner
-    for _ in range(depth):
-        thing = [thing] if as_list else (thing,)
-    return thing
-
-
-def deep_things():
-    inners = (0, 1, True, None, "0", (), [], (2, ((0, 1),)))
-    return [
-        nested(depth, inner, as_list)
-        for depth in (1, 2, 3, 29, 30, 31, 40)
-        for inner in inners
-        for as_list in (False, True)
-    ]
-
-
-PLAIN_THINGS = [
-    0, 1, 2, 6, -1, 10 ** 50, -(10 ** 50), True, False, None,
-    "", "1", "12", "1 :", "3 : 0-1 0-2", "(1, ())", "pile", "~",
-    [], [1, ()], [1, []], [[]], (), (1,), (1, (), ()), (None, None), ("", ""),
-]
 
 
 class Answers(unittest.TestCase):
