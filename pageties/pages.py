@@ -78,16 +78,24 @@ def hardest_tie(rivals, group, pages):
 
 
 # Pages that no tie has yet are all alike: trying the next one of them is enough.
+def pages_to_try(pages, many):
+    return list(range(min(many, page_count(list(pages.values())) + 1)))
+
+
+def with_page(pages, tie, page):
+    more = dict(pages)
+    more[tie] = page
+    return more
+
+
 def laid_on(rivals, group, pages, many):
     if len(pages) == len(group):
         return pages
     tie = hardest_tie(rivals, group, pages)
     taken = taken_by_rivals(rivals, pages, tie)
-    for page in range(min(many, page_count(list(pages.values())) + 1)):
+    for page in pages_to_try(pages, many):
         if page not in taken:
-            more = dict(pages)
-            more[tie] = page
-            found = laid_on(rivals, group, more, many)
+            found = laid_on(rivals, group, with_page(pages, tie, page), many)
             if found is not None:
                 return found
     return None

@@ -1,21 +1,25 @@
 """Pairs of ties along a row: how they lie, and which of them clash."""
 
-from pageties.webs import are_rising, is_whole
+from pageties.webs import are_rising, is_whole, rising_pair
 
 # How two ties must lie to clash on a page of the kind.
 CLASHING = {"pile": "cross", "queue": "within"}
 
 
-def span_of(spots, tie):
-    ends = (spots[tie[0]], spots[tie[1]])
-    return (min(ends), max(ends))
-
-
-# A tie's span is where along the row it begins and ends.
-def spans_of(web, row):
+def spots_of(row):
     spots = {}
     for spot, place in enumerate(row):
         spots[place] = spot
+    return spots
+
+
+# A tie's span is where along the row it begins and ends.
+def span_of(spots, tie):
+    return rising_pair(spots[tie[0]], spots[tie[1]])
+
+
+def spans_of(web, row):
+    spots = spots_of(row)
     return [span_of(spots, tie) for tie in web[1]]
 
 

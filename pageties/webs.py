@@ -27,6 +27,10 @@ def are_rising(things):
     return all([things[k] < things[k + 1] for k in range(len(things) - 1)])
 
 
+def rising_pair(one, other):
+    return (min(one, other), max(one, other))
+
+
 # What rises can be asked only behind the kinds: other things may not be compared at all.
 def are_ties(many, thing):
     if not isinstance(thing, tuple) or len(thing) > MOST_TIES:

@@ -19,6 +19,25 @@ FUNCTIONS = {
         "page_count": ["pages"],
         "fewest_pages": ["web", "row", "kind"],
     },
+    "papers": {
+        "paper_against": ["web", "row", "kind", "many"],
+        "is_paper": ["web", "row", "kind", "many", "thing"],
+    },
+    "orders": {"best_row": ["web", "kind"], "least_pages": ["web", "kind"]},
+    "runs": {
+        "run": ["web", "row", "kind", "some"],
+        "is_run": ["web", "row", "kind", "some", "thing"],
+    },
+    "changing": {
+        "moved": ["row", "by"],
+        "turned": ["row"],
+        "renamed": ["web", "names"],
+        "with_tie": ["web", "one", "other"],
+        "without_tie": ["web", "tie"],
+        "full": ["many"],
+        "round_web": ["many"],
+        "halves": ["one", "other"],
+    },
 }
 
 

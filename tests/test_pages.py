@@ -7,7 +7,8 @@ import unittest
 from pageties.pages import are_right, fewest_pages, page_count
 from pageties.pairs import greatest
 from tests.things import (
-    KINDS, PLAIN_THINGS, clashing_pairs, deep_things, full, rows_of, twelve_tie_webs, webs_beyond, webs_of,
+    KINDS, PLAIN_THINGS, clashing_pairs, deep_things, full, is_enough, keeps_apart, rows_of, twelve_tie_webs,
+    webs_beyond, webs_of,
 )
 
 CROSSING = (6, ((0, 3), (1, 4), (2, 5)))
@@ -36,16 +37,6 @@ PILES_THAT_MISLEAD = [
           (2, 8), (3, 6), (4, 8), (5, 6), (5, 7), (6, 8), (7, 8))),
      (8, 2, 4, 6, 5, 1, 3, 7, 0), 4),
 ]
-
-
-def keeps_apart(pairs, pages):
-    return all(pages[one] != pages[other] for one, other in pairs)
-
-
-# Is there a way to lay all ties on so many pages? Each way is gone through.
-def is_enough(web, row, kind, many):
-    pairs = clashing_pairs(web, row, kind)
-    return any(keeps_apart(pairs, pages) for pages in itertools.product(range(many), repeat=len(web[1])))
 
 
 class AreRight(unittest.TestCase):

@@ -66,6 +66,16 @@ def clashing_pairs(web, row, kind):
     return tuple(pair for pair in pairs if do_clash(web, row, kind, *pair))
 
 
+def keeps_apart(pairs, pages):
+    return all(pages[one] != pages[other] for one, other in pairs)
+
+
+# Is there a way to lay all ties on so many pages? Each way is gone through.
+def is_enough(web, row, kind, many):
+    pairs = clashing_pairs(web, row, kind)
+    return any(keeps_apart(pairs, pages) for pages in itertools.product(range(many), repeat=len(web[1])))
+
+
 def nested(depth, inner, as_list):
     thing = inner
     for _ in range(depth):
@@ -81,6 +91,31 @@ def deep_things():
         for inner in inners
         for as_list in (False, True)
     ]
+
+
+# What is told holds tuples, texts, whole numbers, truths and None, nothing else.
+def is_plainly_made(thing):
+    if type(thing) is tuple:
+        return all(is_plainly_made(part) for part in thing)
+    return type(thing) in (str, int, bool, type(None))
+
+
+def other_things(thing):
+    if type(thing) is int:
+        return [thing + 1, thing - 1, bool(thing), -1 - thing, str(thing), None, (thing,), [thing]]
+    if type(thing) is str:
+        return ["tie", "clash", thing + "s", thing[:-1], None, 0, (thing,)]
+    shifted = [thing[k:] + thing[:k] for k in range(1, len(thing))]
+    return [list(thing), thing[::-1], thing[:-1], thing[1:], thing + thing[:1], (thing,), (), None] + shifted
+
+
+# The thing with one of its parts, itself among them, changed in each of some ways.
+def changed_somewhere(thing):
+    yield from other_things(thing)
+    if type(thing) is tuple:
+        for k, part in enumerate(thing):
+            for other in changed_somewhere(part):
+                yield thing[:k] + (other,) + thing[k + 1:]
 
 
 PLAIN_THINGS = [
